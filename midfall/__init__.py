@@ -1,0 +1,1 @@
+"""Midfall: cached results when a call fails midway."""
