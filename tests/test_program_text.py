@@ -6,6 +6,7 @@ import unittest
 
 from midfall.errors import InvalidProgram, UnknownProcedure
 from midfall.programs import Program
+from tests.texts import changed_texts
 
 TEXTS = {
     "p: call w, read d": None,
@@ -23,6 +24,7 @@ TEXTS = {
     ],
 }
 WELL_FORMED = {text: procedures for text, procedures in TEXTS.items() if procedures is not None}
+CHARACTERS = " ,:;\nadprw{`AZ09_-.\t\r@\x0b\x85\u2028\u00e9"
 STEP = r" (read|say|call|try) ([a-z]{1,8})"
 LINE = re.compile(rf"([a-z]{{1,8}}):({STEP}(,{STEP})*)?")
 
@@ -40,21 +42,6 @@ def first_wrong_line(text):
         if not set(callees) <= set(heads):
             return at + 1
     return None
-
-
-def changed_texts(text):
-    """Yield the text with one character put in, taken out, replaced, or moved."""
-    characters = " ,:;\nadprw{`AZ09_-.\t\r@\x0b\x85\u2028\u00e9"
-    for at in range(len(text) + 1):
-        for character in characters:
-            yield text[:at] + character + text[at:]
-            if at < len(text):
-                yield text[:at] + character + text[at + 1:]
-        if at < len(text):
-            rest = text[:at] + text[at + 1:]
-            yield rest
-            for place in range(len(rest) + 1):
-                yield rest[:place] + text[at] + rest[place:]
 
 
 class TextTest(unittest.TestCase):
@@ -174,7 +161,7 @@ class WrongTextTest(unittest.TestCase):
     def test_every_small_change(self):
         accepted = 0
         for text in TEXTS:
-            for changed in changed_texts(text):
+            for changed in changed_texts(text, CHARACTERS):
                 accepted += self.assert_as_expected(changed) is None
         self.assertGreater(accepted, 100)
 

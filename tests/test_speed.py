@@ -1,0 +1,85 @@
+"""The largest programs and results take well below a second for each question."""
+
+import time
+import unittest
+
+from midfall.errors import CallFailed
+from midfall.graphs import breaks, closure, reached, required
+from midfall.plain import plain_result
+from midfall.programs import Program
+from midfall.results import Result
+from midfall.tracing import trace
+from tests.reference import full_program
+
+MOST_SECONDS = 0.5
+NAMES = [chr(ord("a") + number) for number in range(16)]
+
+
+def ladder():
+    """Return a program in which each step calls the procedure after its own: very many paths, and one ring."""
+    return Program([(name, [("call", after)] * 12) for name, after in zip(NAMES, NAMES[1:])]
+                   + [("p", [("try", "a")] * 11 + [("read", "d")])])
+
+
+def programs():
+    nearly_all = [[("call", other) for other in NAMES[at % 4:at % 4 + 12]] for at in range(16)]
+    return [full_program(1), full_program(2), ladder(), Program(list(zip(NAMES, nearly_all)))]
+
+
+class SpeedTest(unittest.TestCase):
+    def timed(self, function, *arguments, **options):
+        start = time.perf_counter()
+        found = function(*arguments, **options)
+        self.assertLess(time.perf_counter() - start, MOST_SECONDS)
+        return found
+
+    def test_graphs(self):
+        for program in programs():
+            for name in program.names:
+                for function in (reached, required, breaks):
+                    self.timed(function, program, name)
+                self.timed(breaks, program, name, spared=program.names[1::2])
+            self.timed(closure, program, program.names)
+            self.timed(closure, program, program.names[:1])
+
+    def test_plain_results(self):
+        for program in programs():
+            for broken in ((), program.places, program.places[::3]):
+                for spared in ((), program.names, program.names[::2]):
+                    try:
+                        self.timed(plain_result, program, "a", broken=broken, spared=spared)
+                    except CallFailed as error:
+                        self.assertEqual(error.name, "a")
+
+    def test_a_failed_run_with_very_many_paths(self):
+        start = time.perf_counter()
+        with self.assertRaises(CallFailed) as context:
+            plain_result(ladder(), "a", broken=["d"])
+        self.assertLess(time.perf_counter() - start, MOST_SECONDS)
+        self.assertEqual(context.exception.path, tuple(NAMES))
+
+    def test_traces(self):
+        for program in programs():
+            for name in program.names:
+                self.assertGreater(len(self.timed(lambda: list(trace(program, name)))), 12)
+
+    def test_results(self):
+        chain = [[("node", min(at + 1, 39))] * 12 for at in range(39)]
+        ring = [[("node", (at * 7 + item) % 40) for item in range(12)] for at in range(40)]
+        other_ring = [[("node", (at * 11 + item) % 40) for item in range(12)] for at in range(40)]
+        for rows in (ring, other_ring):
+            rows[0][11] = ("gap",)
+        results = [self.timed(Result, rows) for rows in (chain + [[("word", "x")]], chain + [[("word", "y")]],
+                                                         chain + [[]], ring, other_ring)]
+        for one in results:
+            self.timed(one.at, *[0] * 39)
+            self.timed(one.text)
+            self.timed(Result.parse, one.text())
+            for other in results:
+                path = self.timed(one.first_difference, other)
+                self.assertIs(path is None, self.timed(lambda: one == other))
+        self.assertEqual(results[0].first_difference(results[1]), (0,) * 40)
+
+
+if __name__ == "__main__":
+    unittest.main()
