@@ -1,11 +1,15 @@
 """The largest programs and results take well below a second for each question."""
 
+import random
 import time
 import unittest
 
 from midfall.errors import CallFailed
+from midfall.evaluators import Evaluator
 from midfall.graphs import breaks, closure, reached, required
+from midfall.hazards import faults, hazards, needs, tainted
 from midfall.plain import plain_result
+from midfall.policies import CarefulPolicy, EagerPolicy, TrailPolicy
 from midfall.programs import Program
 from midfall.results import Result
 from midfall.tracing import trace
@@ -24,6 +28,18 @@ def ladder():
 def programs():
     nearly_all = [[("call", other) for other in NAMES[at % 4:at % 4 + 12]] for at in range(16)]
     return [full_program(1), full_program(2), ladder(), Program(list(zip(NAMES, nearly_all)))]
+
+
+def reading_program(seed):
+    """Return a program of 16 procedures with 12 steps each, nearly half of which read a place of their own."""
+    chance = random.Random(seed)
+    places = [f"d{one}{two}" for one in NAMES for two in NAMES]
+    bodies = []
+    for name in NAMES:
+        reads = [("read", places.pop()) for _ in range(5)]
+        steps = reads + [(chance.choice(["call", "call", "try"]), chance.choice(NAMES)) for _ in range(7)]
+        bodies.append((name, chance.sample(steps, 12)))
+    return Program(bodies)
 
 
 class SpeedTest(unittest.TestCase):
@@ -62,6 +78,38 @@ class SpeedTest(unittest.TestCase):
         for program in programs():
             for name in program.names:
                 self.assertGreater(len(self.timed(lambda: list(trace(program, name)))), 12)
+
+    def test_runs(self):
+        for program in programs() + [reading_program(1), reading_program(2)]:
+            for policy in (CarefulPolicy(), TrailPolicy(), EagerPolicy(), EagerPolicy(program.names)):
+                for broken in ((), program.places, program.places[::3], program.places[:1]):
+                    evaluator = Evaluator(program, policy=policy)
+                    for name in program.names:
+                        try:
+                            self.timed(evaluator.run, name, broken=broken)
+                        except CallFailed as error:
+                            self.assertEqual(error.name, name)
+                        self.timed(evaluator.wrong)
+                    self.assertTrue(self.timed(lambda: evaluator == evaluator.copy()))
+
+    def test_calls_that_fail_again_and_again(self):
+        """Each of them would take very long if what has failed were called anew."""
+        steps = [(name, [("try", after)] * 4 + [("read", "d")]) for name, after in zip(NAMES[:11], NAMES[1:12])]
+        program = Program(steps + [("l", [("read", "d")]), ("p", [("try", "a")])])
+        for policy in (CarefulPolicy(), TrailPolicy(), EagerPolicy()):
+            result = self.timed(Evaluator(program, policy=policy).run, "p", broken=["d"])
+            self.assertEqual(result.text(), "0: -")
+
+    def test_hazards(self):
+        found = 0
+        for program in programs() + [reading_program(seed) for seed in range(8)]:
+            for name in program.names:
+                found += len(self.timed(hazards, program, name))
+            self.timed(needs, program)
+            for function in (faults, tainted):
+                self.timed(function, program)
+                self.timed(function, program, marks=program.names[::2])
+        self.assertGreater(found, 100)
 
     def test_results(self):
         chain = [[("node", min(at + 1, 39))] * 12 for at in range(39)]
