@@ -18,7 +18,7 @@ def plain_result(program, name, *, numbers=None, broken=(), spared=()):
         raise CallFailed(name, failed[0], failed[1])
     calm_nodes = {callee: ("node", at) for at, callee in enumerate(program.names)}
     nodes = _present_nodes(program, broken_places, spared_names)
-    rows = _rows_of_all(program, values, calm_nodes) + _rows_of_all(program, values, nodes)
+    rows = rows_of_all(program, values, calm_nodes) + rows_of_all(program, values, nodes)
     return Result.from_row(rows, nodes[name][1])
 
 
@@ -46,7 +46,8 @@ def _present_nodes(program, broken, spared):
     return nodes
 
 
-def _rows_of_all(program, values, nodes):
+def rows_of_all(program, values, nodes):
+    """Return a row for each procedure; `nodes` has the item that stands for each of them."""
     return [[_item(kind, word, values, nodes) for kind, word in program[name]] for name in program.names]
 
 

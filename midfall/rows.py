@@ -87,10 +87,10 @@ def _pointing_row(row, targets):
     return [("node", targets[item[1]]) if item[0] == "node" else item for item in row]
 
 
-def difference_path(rows, others):
-    """Return the first path at which the results of two lists of rows differ, or None."""
-    paths = {(0, 0): ()}
-    pairs = [(0, 0)]
+def difference_path(rows, others, start=0, other_start=0):
+    """Return the first path at which the results of a row and of another list's row differ, or None."""
+    paths = {(start, other_start): ()}
+    pairs = [(start, other_start)]
     at = 0
     while at < len(pairs):
         row, other = rows[pairs[at][0]], others[pairs[at][1]]

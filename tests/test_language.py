@@ -22,6 +22,19 @@ DECORATORS = re.compile(r"property|staticmethod|classmethod|\w+\.setter")
 BARRED_NODES = (ast.Global, ast.AsyncFunctionDef, ast.AsyncFor, ast.AsyncWith, ast.Await, ast.Import, ast.Div)
 
 
+def bound_at_the_top(tree):
+    """Return all names that a file binds at module level, imports included."""
+    bound = []
+    for node in tree.body:
+        if isinstance(node, ast.ImportFrom):
+            bound.extend(alias.name for alias in node.names)
+        elif isinstance(node, ast.Assign):
+            bound.extend(target.id for target in node.targets)
+        elif isinstance(node, (ast.ClassDef, ast.FunctionDef)):
+            bound.append(node.name)
+    return bound
+
+
 class LanguageTest(unittest.TestCase):
     def each(self):
         """Yield the text and the tree of each file."""
@@ -66,6 +79,28 @@ class LanguageTest(unittest.TestCase):
         for text, tree in self.each():
             used = {node.id for node in ast.walk(tree) if isinstance(node, ast.Name)}
             self.assertLessEqual(used & PYTHON_BUILTINS, BUILTINS)
+
+    def test_names_are_bound_once(self):
+        """No parameter or local variable has the name of a class or an import of its file, or of a builtin."""
+        for text, tree in self.each():
+            known = {alias.name for node in tree.body if isinstance(node, ast.ImportFrom) for alias in node.names}
+            known |= {node.name for node in tree.body if isinstance(node, ast.ClassDef)}
+            self.assertEqual(len(bound_at_the_top(tree)), len(set(bound_at_the_top(tree))))
+            for node in ast.walk(tree):
+                if isinstance(node, ast.Name) and isinstance(node.ctx, ast.Store):
+                    self.assertNotIn(node.id, known | PYTHON_BUILTINS)
+                elif isinstance(node, ast.arg):
+                    self.assertNotIn(node.arg, known | PYTHON_BUILTINS)
+
+    def test_no_name_is_a_method_and_an_attribute(self):
+        for text, tree in self.each():
+            for owner in [node for node in tree.body if isinstance(node, ast.ClassDef)]:
+                methods = [node.name for node in owner.body if isinstance(node, ast.FunctionDef)
+                           and not any(ast.unparse(mark).endswith(".setter") for mark in node.decorator_list)]
+                self.assertEqual(len(methods), len(set(methods)))
+                stored = {node.attr for node in ast.walk(owner)
+                          if isinstance(node, ast.Attribute) and isinstance(node.ctx, ast.Store)}
+                self.assertEqual(stored & set(methods), set())
 
     def test_no_barred_words_and_no_percent_sign(self):
         for text, tree in self.each():

@@ -4,13 +4,17 @@ import random
 import time
 import unittest
 
+from midfall.alike import alike, parting
 from midfall.errors import CallFailed
 from midfall.evaluators import Evaluator
 from midfall.graphs import breaks, closure, reached, required
 from midfall.hazards import faults, hazards, needs, tainted
+from midfall.histories import History
+from midfall.judging import judge
 from midfall.plain import plain_result
 from midfall.policies import CarefulPolicy, EagerPolicy, TrailPolicy
 from midfall.programs import Program
+from midfall.repairs import reads_first, warming
 from midfall.results import Result
 from midfall.tracing import trace
 from tests.reference import full_program
@@ -110,6 +114,41 @@ class SpeedTest(unittest.TestCase):
                 self.timed(function, program)
                 self.timed(function, program, marks=program.names[::2])
         self.assertGreater(found, 100)
+
+    def test_verdicts_and_repairs(self):
+        unsafe = 0
+        for program in programs() + [reading_program(seed) for seed in range(6)]:
+            for marks in ((), program.names[::2], program.names[1:]):
+                evaluator = Evaluator(program, policy=EagerPolicy(marks))
+                for broken in (program.places, program.places[::3], program.places[:2], ()):
+                    unsafe += not self.timed(judge, evaluator).safe
+                    self.timed(warming, evaluator)
+                    History([("run", name, broken) for name in program.names[:3]]).play(evaluator)
+            self.timed(reads_first, program)
+        self.assertGreater(unsafe, 20)
+
+    def alike_programs(self):
+        """Yield programs with very many places, with very many pairs of equal results, and with both."""
+        for seed in range(3):
+            yield reading_program(seed)
+        for classes in (1, 2, 4, 8, 16):
+            bodies = []
+            for at, name in enumerate(NAMES):
+                calls = [(kind, NAMES[(at + classes * step) % 16]) for step, kind in ((1, "call"), (3, "try"))]
+                bodies.append((name, calls + [("read", f"{NAMES[at % classes]}{letter}") for letter in NAMES[:10]]))
+            yield Program(bodies)
+        yield Program([(name, [("read", f"{name}{letter}") for letter in NAMES[:11]] + [("try", after)])
+                       for name, after in zip(NAMES, NAMES[1:] + ["a"])])
+
+    def test_alike(self):
+        same = 0
+        for program in [*programs(), *self.alike_programs()]:
+            other = Program([(name, program[name]) for name in reversed(program.names)])
+            for name in program.names[::5]:
+                for other_name in (name, program.names[-1]):
+                    same += self.timed(alike, program, name, other, other_name)
+                    self.timed(parting, program, name, other, other_name)
+        self.assertGreater(same, 40)
 
     def test_results(self):
         chain = [[("node", min(at + 1, 39))] * 12 for at in range(39)]
