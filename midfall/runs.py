@@ -14,8 +14,9 @@ class Run:
         self.numbers = numbers
         self.broken = broken
         self.cache = dict(cache)
-        # The nodes of the open calls, and those that have completed, are not cached and are not dropped.
+        # The nodes of the open calls.
         self.pending = {}
+        # The nodes that have completed in this run, are not cached and have not been dropped.
         self.kept = {}
         self.failed = {}
         self.added = []

@@ -38,10 +38,9 @@ class Machine:
     def run(self, name, broken=()):
         """Return ("result", rows) or ("failed", path, place)."""
         self.broken = set(broken)
-        self.opened = {}
-        self.failed = set()
-        # The nodes that have completed in this run and have not been dropped, and those cached in this run.
-        self.usable = {}
+        # All calls of this run, as pairs of a procedure and a node, and what has become of some of them.
+        self.calls = []
+        self.dropped = set()
         self.new = set()
         self.readings = []
         self.calm = True
@@ -52,44 +51,45 @@ class Machine:
         except StepFailed:
             node = None
         if self.kind == "careful":
-            for procedure, found in self.usable.items():
-                if self.is_sound(found):
-                    self.cache.setdefault(procedure, found)
+            self.cache |= {procedure: found for procedure, found in self.usable() if self.is_sound(found)}
         if node is None:
             return ("failed", *failing_path(self.program, name, self.broken, spared))
         return "result", self.rows(node)
 
+    def calls_that(self, state):
+        return [(procedure, node) for procedure, node in self.calls if self.states[node] == state]
+
+    def usable(self):
+        """Return the calls whose nodes have completed in this run, are not cached and have not been dropped."""
+        return [(procedure, node) for procedure, node in self.calls_that("completed")
+                if node not in self.dropped and self.cache.get(procedure) != node]
+
     def node(self, name):
-        if name in self.cache:
-            return self.cache[name]
-        if name in self.opened:
-            return self.opened[name]
-        if name in self.failed:
+        """Return the node of a procedure by the first rule that applies."""
+        given = [self.cache.get(name), dict(self.calls_that("open")).get(name)]
+        if given == [None, None] and name in dict(self.calls_that("failed")):
             raise StepFailed
-        if name in self.usable:
-            return self.usable[name]
+        given += [dict(self.usable()).get(name)]
+        found = [node for node in given if node is not None]
+        return found[0] if found else self.call(name)
+
+    def call(self, name):
         node = len(self.items)
+        self.calls.append((name, node))
         self.items.append([])
         self.states.append("open")
-        self.opened[name] = node
         try:
             for kind, word in self.program[name]:
                 self.items[node].append(self.item(name, kind, word))
         except StepFailed:
-            self.close(name, node, "failed")
-            self.failed.add(name)
-            self.drop(node)
+            self.states[node] = "failed"
+            self.dropped |= {other for _, other in self.usable() if node in self.reach(other)}
             raise
-        self.close(name, node, "completed")
-        self.usable[name] = node
+        self.states[node] = "completed"
         if self.kind in ("trail", "eager") and self.calm:
             self.cache[name] = node
             self.new.add(name)
         return node
-
-    def close(self, name, node, state):
-        del self.opened[name]
-        self.states[node] = state
 
     def item(self, name, kind, word):
         if kind == "say":
@@ -123,11 +123,6 @@ class Machine:
 
     def leads_to_open(self, node):
         return any(self.states[found] == "open" for found in self.reach(node))
-
-    def drop(self, failed):
-        for name, node in list(self.usable.items()):
-            if self.cache.get(name) != node and failed in self.reach(node):
-                del self.usable[name]
 
     def reach(self, node):
         found = {node}
@@ -177,7 +172,7 @@ class Machine:
     # Point 23.
 
     def exposed(self):
-        return {name for name, node in self.usable.items() if self.leads_to_open(node)}
+        return {name for name, node in self.calls_that("completed") if self.leads_to_open(node)}
 
 
 def expected_hazards(program, name):

@@ -14,8 +14,8 @@ from tests.exploring import States, risky_programs
 from tests.machine import (
     Machine, expected_faults, expected_hazards, expected_needs, expected_tainted, random_events,
 )
+from tests.playing import perform, random_marks
 from tests.reference import random_program, subsets
-from tests.test_evaluator_histories import perform, random_marks
 
 NAMES = [chr(ord("a") + number) for number in range(16)]
 PROGRAM = Program.parse("p: call e, call w, try z\ne: read d\nw: call p\nz: read d\nv: try w\nx: say y")

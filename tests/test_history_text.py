@@ -37,12 +37,23 @@ def first_wrong_line(text):
     return None
 
 
+def read_events(text):
+    """Return the events of a text that has the form."""
+    events = []
+    for line in text.split("\n") if text else []:
+        kind, name, *more = line.split(" ")
+        events.append((kind, name, int(more[0]) if kind == "set" else tuple(sorted(set(more[1:])))))
+    return tuple(events)
+
+
 class TextTest(unittest.TestCase):
     def assert_as_expected(self, text):
         """Parse the text; return the number of the wrong line that it has by a regular expression."""
         line = first_wrong_line(text)
         if line is None:
-            self.assertEqual(first_wrong_line(History.parse(text).text()), None)
+            history = History.parse(text)
+            self.assertEqual(history.events, read_events(text), repr(text))
+            self.assertEqual(History.parse(history.text()), history)
             return None
         with self.assertRaises(InvalidHistory) as context:
             History.parse(text)

@@ -13,8 +13,8 @@ from midfall.programs import Program
 from midfall.repairs import reads_first, warming
 from tests.exploring import risky_programs
 from tests.machine import random_events
+from tests.playing import perform, random_marks
 from tests.reference import full_program, random_program
-from tests.test_evaluator_histories import perform, random_marks
 
 PROGRAM = Program.parse("p: call e, call w, try z\ne: read d\nw: call p\nz: read d")
 
