@@ -1,6 +1,6 @@
 """All states of an evaluator that runs lead to, for the tests alone."""
 
-from tests.machine import Machine, expected_needs
+from tests.machine import expected_needs
 from tests.reference import random_program, subsets
 
 
